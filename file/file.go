@@ -10,8 +10,8 @@ import (
 	"surtitle/utf"
 )
 
-// orderMark is the byte order mark with which a file may begin.
-const orderMark = "\ufeff"
+// OrderMark is the byte order mark with which a file may begin.
+const OrderMark = "\ufeff"
 
 // Line is one of a file.
 type Line struct {
@@ -35,7 +35,7 @@ func Lines(b []byte) iter.Seq[Line] {
 			n++
 			long := tooMany && at+len(line) >= api.MaxFile
 			if at == 0 {
-				line = strings.TrimPrefix(line, orderMark)
+				line = strings.TrimPrefix(line, OrderMark)
 			}
 			if !yield(Line{Number: n, S: line, Long: long}) || long {
 				return
