@@ -56,10 +56,18 @@ func Check(ahead []api.Cue, c api.Cue) api.Errno {
 		return e
 	}
 	n := len(ahead)
+	if n == 0 {
+		return api.OK
+	}
+	return Behind(n, ahead[n-1], c)
+}
+
+// Behind tells whether a right cue may stand behind so many, of which this is the last: ErrOrder, ErrMany.
+func Behind(many int, last, c api.Cue) api.Errno {
 	switch {
-	case n > 0 && cue.Compare(ahead[n-1], c) > 0:
+	case many > 0 && cue.Compare(last, c) > 0:
 		return api.ErrOrder
-	case n >= api.MaxCues:
+	case many >= api.MaxCues:
 		return api.ErrMany
 	}
 	return api.OK

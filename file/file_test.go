@@ -146,3 +146,27 @@ func TestCheck(t *testing.T) {
 		}
 	}
 }
+
+// TestBehind: P11: ErrOrder, ErrMany, of a cue behind so many of which the last one is known.
+func TestBehind(t *testing.T) {
+	at := func(from, to int64) api.Cue {
+		return api.Cue{Start: api.Ratio{N: from, D: 1}, End: api.Ratio{N: to, D: 1}}
+	}
+	for n, x := range []struct {
+		many    int
+		last, c api.Cue
+		want    api.Errno
+	}{
+		{0, api.Cue{}, at(0, 1), api.OK},
+		{1, at(2, 4), at(2, 4), api.OK},
+		{1, at(2, 4), at(2, 3), api.ErrOrder},
+		{1, at(2, 4), at(1, 9), api.ErrOrder},
+		{api.MaxCues - 1, at(2, 4), at(3, 4), api.OK},
+		{api.MaxCues, at(2, 4), at(3, 4), api.ErrMany},
+		{api.MaxCues, at(2, 4), at(1, 4), api.ErrOrder},
+	} {
+		if e := file.Behind(x.many, x.last, x.c); e != x.want {
+			t.Errorf("%d: %v; want %v", n, e, x.want)
+		}
+	}
+}
